@@ -1,0 +1,1 @@
+"""Everymoment: programs on linked records, written for the present and remembered at every moment."""

@@ -1,0 +1,69 @@
+"""The section "The interface": names, arguments, files, and what is defined where."""
+
+import ast
+import importlib
+import inspect
+import pathlib
+import unittest
+
+from everymoment.stores import Store, ran
+from everymoment.texts import Program
+from samples import STACK
+
+PACKAGE = pathlib.Path(__file__).parent.parent / 'everymoment'
+
+FUNCTIONS = {'stores': {'ran': ['program', 'calls'], 'writes': ['program', 'calls']}}
+
+CLASSES = {
+    'texts': {'Program': {'__init__': ['self', 'text'], '__eq__': ['self', 'other'], 'line': ['self', 'number'],
+                          'part_at': ['self', 'name']}},
+    'stores': {'Store': {'__init__': ['self', 'program'], '__eq__': ['self', 'other'], '__len__': ['self'],
+                         'call': ['self', 'name', 'numbers'], 'door': ['self', 'name'],
+                         'field': ['self', 'record', 'name'], 'read': ['self', 'way'], 'back': ['self', 'many'],
+                         'copy': ['self']}},
+}
+
+
+def defined_in(file):
+    """The names of the functions and classes that a file of the package defines itself."""
+    tree = ast.parse((PACKAGE / (file + '.py')).read_text(encoding='utf-8'))
+    return [node.name for node in tree.body if isinstance(node, (ast.FunctionDef, ast.ClassDef))]
+
+
+class InterfaceTest(unittest.TestCase):
+
+    def test_functions(self):
+        for file, functions in FUNCTIONS.items():
+            module = importlib.import_module('everymoment.' + file)
+            for name, parameters in functions.items():
+                with self.subTest(file=file, name=name):
+                    self.assertIn(name, defined_in(file))
+                    self.assertEqual(list(inspect.signature(getattr(module, name)).parameters), parameters)
+
+    def test_classes_and_their_own_methods(self):
+        for file, classes in CLASSES.items():
+            module = importlib.import_module('everymoment.' + file)
+            for name, methods in classes.items():
+                self.assertIn(name, defined_in(file))
+                for method, parameters in methods.items():
+                    with self.subTest(file=file, name=name, method=method):
+                        found = vars(getattr(module, name))[method]
+                        self.assertEqual(list(inspect.signature(found).parameters), parameters)
+
+    def test_errors_are_defined_in_their_file(self):
+        module = importlib.import_module('everymoment.errors')
+        self.assertEqual(sorted(defined_in('errors')),
+                         sorted(name for name, value in vars(module).items() if isinstance(value, type)))
+
+    def test_attributes_are_set_as_an_object_is_created(self):
+        program = Program(STACK.text)
+        self.assertEqual([type(program.text), type(program.fields), type(program.doors), type(program.parts)],
+                         [str, tuple, tuple, tuple])
+        self.assertTrue(all(type(part) is tuple for part in program.parts))
+        for store in (Store(program), ran(program, ()), Store(program).copy()):
+            self.assertIs(store.program, program)
+            self.assertEqual([type(store.moment), type(store.records), type(store.calls)], [int, int, tuple])
+
+
+if __name__ == '__main__':
+    unittest.main()
