@@ -1,10 +1,11 @@
 """What the document's words mean of any value, for all modules that take values in."""
 
-from everymoment.errors import BadNumbers, BadWay, NoDoor, NoField
+from everymoment.errors import BadMoment, BadNumbers, BadSpare, BadWay, NoDoor, NoField
 
 LEAST_NUMBER = -9999
 MOST_NUMBER = 9999
 MOST_WAY_FIELDS = 200
+MOST_SPARE = 8
 
 
 def is_integer(value):
@@ -20,6 +21,23 @@ def is_between(value, least, most):
 def is_number(value):
     """Whether any value is a NUMBER."""
     return is_between(value, LEAST_NUMBER, MOST_NUMBER)
+
+
+def is_cell(value, word, many):
+    """Whether any value is what a field may hold: a NUMBER, or (word, k), k an integer from 0 to many - 1."""
+    if isinstance(value, tuple):
+        return len(value) == 2 and value[0] == word and is_between(value[1], 0, many - 1)
+    return is_number(value)
+
+
+def are_cells(values, size, word, many):
+    """Whether any value is a tuple of this size of what fields may hold."""
+    return isinstance(values, tuple) and len(values) == size and all([is_cell(value, word, many) for value in values])
+
+
+def is_ascending(numbers):
+    """Whether each integer is greater than the one ahead."""
+    return all([number < later for number, later in zip(numbers, numbers[1:])])
 
 
 def check_numbers(numbers, many):
@@ -40,9 +58,26 @@ def check_field(program, name):
         raise NoField(name)
 
 
+def is_way(program, value):
+    """Whether any value is a WAY of the program."""
+    if not isinstance(value, tuple) or not 1 <= len(value) <= 1 + MOST_WAY_FIELDS:
+        return False
+    return value[0] in program.doors and all([name in program.fields for name in value[1:]])
+
+
 def check_way(program, way):
     """BadWay(way) unless it is a WAY of the program."""
-    if not isinstance(way, tuple) or not 1 <= len(way) <= 1 + MOST_WAY_FIELDS:
+    if not is_way(program, way):
         raise BadWay(way)
-    if way[0] not in program.doors or not all([name in program.fields for name in way[1:]]):
-        raise BadWay(way)
+
+
+def check_spare(spare):
+    """BadSpare(spare) unless it is a SPARE."""
+    if spare is not None and not is_between(spare, 0, MOST_SPARE):
+        raise BadSpare(spare)
+
+
+def check_moment(wanted, moment):
+    """BadMoment(moment) unless it is one of those wanted."""
+    if not is_integer(moment) or moment not in wanted:
+        raise BadMoment(moment)

@@ -21,8 +21,9 @@ class Run:
         self.doors = dict(zip(program.doors, doors))
         self.rows = list(rows)
         self.told = []
-        # (record, field, VALUE) of each set by which a field came to hold another VALUE.
-        self.written = []
+        # What was done to doors and records, one behind another: ("new", record), and, where another VALUE came to
+        # be held, ("set", record, field, VALUE) and ("put", door, VALUE).
+        self.deeds = []
         self.steps = 0
         self.now = 0
 
@@ -57,10 +58,11 @@ class Run:
 
     def put(self, frame, word, value):
         """Makes an X this VALUE."""
-        if word in self.doors:
-            self.doors[word] = value
-        else:
+        if word not in self.doors:
             frame[word] = value
+        elif self.doors[word] != value:
+            self.doors[word] = value
+            self.deeds.append(("put", word, value))
 
     def make(self):
         """A new record; Fault if it is one too many."""
@@ -68,6 +70,7 @@ class Run:
         if record == MOST_RECORDS:
             raise Fault(self.now)
         self.rows.append((0,) * len(self.program.fields))
+        self.deeds.append(("new", record))
         return ("record", record)
 
     def write(self, record, field, value):
@@ -76,7 +79,7 @@ class Run:
         at = self.program.fields.index(field)
         if row[at] != value:
             self.rows[record] = row[:at] + (value,) + row[at + 1:]
-            self.written.append((record, field, value))
+            self.deeds.append(("set", record, field, value))
 
     def state(self):
         """What stands now."""
@@ -174,12 +177,12 @@ def first_state(program):
 
 
 def done(program, state, name, numbers):
-    """What a call brings about upon a state: (VALUES told, state behind it, writes); NoPart, BadNumbers, Fault."""
+    """What a call brings about upon a state: (VALUES told, state behind it, deeds); NoPart, BadNumbers, Fault."""
     program.part_at(name)
     check_numbers(numbers, len(program.parameters[name]))
     run = Run(program, state)
     do_part(run, name, numbers)
-    return (tuple(run.told), run.state(), tuple(run.written))
+    return (tuple(run.told), run.state(), tuple(run.deeds))
 
 
 def done_calls(program, calls):
@@ -269,6 +272,11 @@ class Store:
         return other
 
 
+def state_of(store):
+    """What stands in a Store now."""
+    return store._states[-1]
+
+
 def ran(program, calls):
     """A Store that did these calls; NoProgram, BadCalls."""
     outcomes = done_calls(program, calls)
@@ -281,5 +289,5 @@ def writes(program, calls):
     """(moment, record, field, VALUE) of each set that changed what a field holds; NoProgram, BadCalls."""
     found = []
     for at, outcome in enumerate(done_calls(program, calls)):
-        found.extend([(at + 1,) + write for write in outcome[2]])
+        found.extend([(at + 1,) + deed[1:] for deed in outcome[2] if deed[0] == "set"])
     return tuple(found)

@@ -1,5 +1,6 @@
 """What several test files use: programs, odd values, and short ways to ask what is raised."""
 
+from everymoment.keeping import Kept
 from everymoment.stores import Store
 from everymoment.texts import Program
 
@@ -25,6 +26,17 @@ PILE = program_of(
     'put s 0', 'put r top', 'kind k r', 'while k', 'get v r val', 'add s s v', 'get r r next', 'kind k r', 'end',
     'tell s', 'part pop', 'get v top val', 'get top top next', 'tell v')
 
+# Records between two doors, which are turned, tied in rings and to themselves, lost, and written often in one call.
+WEB = program_of(
+    'fields key left right', 'doors here there', 'part make n', 'new r', 'set r key n', 'set r left here',
+    'set r right there', 'put here r', 'part step', 'kind k here', 'if k', 'get here here left', 'end', 'part turn',
+    'put x here', 'put here there', 'put there x', 'part mark n', 'kind k here', 'if k', 'set here key n', 'end',
+    'part tie', 'kind k here', 'if k', 'set here right there', 'end', 'part ring', 'kind k there', 'if k',
+    'set there left here', 'end', 'part own', 'kind k there', 'if k', 'set there right there', 'end', 'part lose',
+    'put here 0', 'part busy n', 'kind k there', 'if k', 'get old there key', 'set there key n', 'set there left here',
+    'set there key 7', 'get p there right', 'kind k p', 'if k', 'set p key n', 'set p left there', 'end',
+    'put here there', 'set there key old', 'end', 'part fail n', 'call make n', 'call ring', 'tell here', 'set n key 1')
+
 
 def deep(value, levels):
     """The value within so many tuples, lists and dicts."""
@@ -37,7 +49,7 @@ def odd_values():
     """Values of each kind that there is, none of them a string that names anything."""
     return [None, True, False, 0, 1, -1, 5, 10000, '', ' ', 'x y', 'Head', 'head ', (), [], {}, ('head',), ['head'],
             {'head': 1}, (('head',),), ('push', (1,)), [('push', (1,))], STACK, PILE, Store(STACK), Store(PILE),
-            deep(0, 60), deep('head', 60)]
+            Kept(PILE, 1), deep(0, 60), deep('head', 60)]
 
 
 def raised(test, error, function, *given, **named):

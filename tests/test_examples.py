@@ -1,4 +1,4 @@
-r"""The examples of points 4 and 5, and those of README.md.
+r"""The examples of points 4, 5, 6, 7, 8 and 11, and those of README.md.
 
 >>> from everymoment.texts import Program
 >>> rows = ['fields key after', 'doors head', 'part push k', 'new r', 'set r key k', 'set r after head', 'put head r']
@@ -40,6 +40,98 @@ r"""The examples of points 4 and 5, and those of README.md.
 >>> store.back(2)
 >>> [store.door('top'), store == ran(pile, (('push', (3,)), ('push', (5,)), ('total', ()))), len(store)]
 [('record', 1), True, 3]
+
+>>> from everymoment.shapes import come_to, is_shape, linkers, parting, shape, shape_read, shows_parting, way_to
+>>> from everymoment.stores import ran
+>>> from everymoment.texts import Program
+>>> rows = Program('fields key next\ndoors top last\npart push n\nnew r\nset r key n\nset r next top\nput top r\npart mark\nput last top\npart ring\nset last next top\npart lone n\nnew last\nset last key n')
+>>> two = ran(rows, (('push', (5,)), ('mark', ()), ('push', (7,))))
+>>> shape(two)
+((('record', 0), ('record', 1)), ((7, ('record', 1)), (5, 0)))
+>>> [come_to(two), linkers(two), way_to(rows, shape(two), 1), shape_read(rows, shape(two), ('top', 'next', 'key'))]
+[(0, 1), (1, 0), ('last',), 5]
+>>> round_shape = shape(ran(rows, two.calls + (('ring', ()),)))
+>>> [round_shape[1], shape_read(rows, round_shape, ('top', 'next', 'next', 'key')), shape_read(rows, shape(two), ('top', 'next', 'next', 'key'))]
+[((7, ('record', 1)), (5, ('record', 0))), 7, None]
+>>> [shows_parting(rows, shape(two), round_shape, value) for value in (('read', ('last', 'next')), ('read', ('last', 'key')), None)]
+[True, False, False]
+>>> same, twins = [shape(ran(rows, (('push', (5,)), call))) for call in (('mark', ()), ('lone', (5,)))]
+>>> [same, twins, parting(rows, same, same)]
+[((('record', 0), ('record', 0)), ((5, 0),)), ((('record', 0), ('record', 1)), ((5, 0), (5, 0))), None]
+>>> parting(rows, same, twins) in (('one', ('top',), ('last',)), ('one', ('last',), ('top',)))
+True
+>>> [is_shape(rows, value) for value in (twins, (twins[0][::-1], twins[1]), (twins[0], twins[1] + ((0, 0),)))]
+[True, False, False]
+
+>>> from everymoment.keeping import Kept, kept_of
+>>> from everymoment.texts import Program
+>>> heap = Program('fields key next\ndoors top\npart push n\nnew r\nset r key n\nset r next top\nput top r\npart poke n\nget r top next\nset r key n')
+>>> kept = Kept(heap, 1)
+>>> for number in (5, 6):
+...     told = kept.call('push', (number,))
+>>> kept.memory()
+((((0, 0), (1, ('copy', 0)), (2, ('copy', 1))),), ((0, 1, (5, 0), ()), (1, 2, (6, ('copy', 0)), ())))
+>>> for number in (7, 8):
+...     told = kept.call('poke', (number,))
+>>> kept.memory()[1]
+((0, 1, (5, 0), ((3, 'key', 7),)), (1, 2, (6, ('copy', 0)), ((4, 'next', ('copy', 2)),)), (0, 4, (8, 0), ()))
+>>> [kept.read_at(moment, ('top', 'next', 'key')) for moment in (1, 2, 3, 4)]
+[None, 5, 7, 8]
+>>> [kept.field_at(3, 0, 'key'), kept.copy_at(3, 0), kept.copy_at(4, 0), kept.read_at(4, ('top', 'next')), kept.copies, kept.records]
+[7, 0, 2, ('record', 0), 3, 2]
+>>> [kept_of(heap, spare, kept.calls).copies for spare in (0, 1, 2, None)]
+[6, 3, 2, 2]
+
+>>> from everymoment.keeping import kept_of
+>>> from everymoment.memories import is_memory, map_at, memory_read, plain_of, shows_wrong_place, stretches, wrong_place
+>>> from everymoment.texts import Program
+>>> pile = Program('fields val link\ndoors top\npart push x\nnew r\nset r val x\nset r link top\nput top r\npart poke x\nset top val x')
+>>> calls = (('push', (5,)), ('push', (7,)), ('poke', (9,)))
+>>> memory = kept_of(pile, 0, calls).memory()
+>>> memory[0]
+(((0, 0), (1, ('copy', 0)), (2, ('copy', 1)), (3, ('copy', 2))),)
+>>> memory[1]
+((0, 1, (5, 0), ()), (1, 2, (7, ('copy', 0)), ()), (1, 3, (9, ('copy', 0)), ()))
+>>> stretches(pile, memory), map_at(pile, memory, 2), map_at(pile, memory, 3)
+(((0, 1, None), (1, 2, 2), (1, 3, None)), ((0, 0), (1, 1)), ((0, 0), (1, 2)))
+>>> [memory_read(pile, memory, moment, ('top', 'val')) for moment in range(4)]
+[None, 5, 7, 9]
+>>> plain_of(pile, memory, 2)
+((('record', 1),), ((0, (5, 0)), (1, (7, ('record', 0)))))
+>>> spared = kept_of(pile, 2, calls).memory()
+>>> [spared[1][1], is_memory(pile, calls, spared), is_memory(pile, calls, memory), is_memory(pile, calls[:2], memory)]
+[(1, 2, (7, ('copy', 0)), ((3, 'val', 9),)), True, True, True]
+>>> bent = (memory[0], memory[1][:2] + ((1, 3, (8, ('copy', 0)), ()),))
+>>> wrong_place(pile, calls, bent), wrong_place(pile, calls, memory), wrong_place(pile, calls, memory[0])
+(('copy', 2, 'val', 3), None, -1)
+>>> [shows_wrong_place(pile, calls, bent, value) for value in (('copy', 2, 'val', 3), ('copy', 2, 'link', 3), ('record', 1))]
+[True, False, False]
+
+>>> from everymoment.keeping import kept_of
+>>> from everymoment.leaving import left, needed, needed_copies, shows_witness, witness
+>>> from everymoment.texts import Program
+>>> rows = ['fields num link', 'doors top', 'part push n', 'new r', 'set r num n', 'set r link top', 'put top r']
+>>> rows = rows + ['part raise', 'get v top num', 'add v v 1', 'set top num v', 'part drop', 'get r top link', 'put top r']
+>>> heap = Program('\n'.join(rows))
+>>> kept = kept_of(heap, 1, (('push', (5,)), ('push', (7,)), ('raise', ()), ('raise', ()), ('drop', ())))
+>>> kept.memory()[0]
+(((0, 0), (1, ('copy', 0)), (2, ('copy', 1)), (4, ('copy', 2)), (5, ('copy', 0))),)
+>>> kept.memory()[1]
+((0, 1, (5, 0), ()), (1, 2, (7, ('copy', 0)), ((3, 'num', 8),)), (1, 4, (9, ('copy', 0)), ()))
+>>> needed(kept, (1, 3))
+(((0, 1), (0, 2)), ((0, 0), (0, 1), (1, 1)), ((1, 0),))
+>>> [needed_copies(kept, moments) for moments in ((0,), (1,), (4, 5))]
+[(), (0,), (0, 2)]
+>>> [witness(kept, (3,), 0), shows_witness(kept, (3, 5), 0, (5, ('top',))), left(kept, (3,)), left(kept, ())]
+[(3, ('top', 'link')), True, (2, 1), (1, 0)]
+>>> kept.let_go((3,))
+>>> kept.memory()
+((((0, 0), (2, ('copy', 1)), (5, ('copy', 0))),), ((0, 1, (5, 0), ()), (1, 2, (0, ('copy', 0)), ((3, 'num', 8),))))
+>>> [kept.wanted, [kept.read_at(moment, ('top', 'num')) for moment in kept.wanted], needed_copies(kept, (3, 5))]
+[(3, 5), [8, 5], (0, 1)]
+>>> told = kept.call('raise', ())
+>>> [kept.wanted, kept.memory()[1][0], kept.read_at(6, ('top', 'num'))]
+[(3, 5, 6), (0, 1, (5, 0), ((6, 'num', 6),)), 6]
 """
 
 import doctest
@@ -59,7 +151,7 @@ class ExamplesTest(unittest.TestCase):
         self.assertEqual(results.failed, 0, ''.join(said))
 
     def test_examples_of_the_document(self):
-        self.assert_examples(__doc__, 'points 4 and 5', 19)
+        self.assert_examples(__doc__, 'points of the document', 70)
 
     def test_examples_of_the_readme(self):
         self.assert_examples(README.read_text(encoding='utf-8'), 'README.md', 5)

@@ -12,7 +12,21 @@ from samples import STACK
 
 PACKAGE = pathlib.Path(__file__).parent.parent / 'everymoment'
 
-FUNCTIONS = {'stores': {'ran': ['program', 'calls'], 'writes': ['program', 'calls']}}
+FUNCTIONS = {
+    'stores': {'ran': ['program', 'calls'], 'writes': ['program', 'calls']},
+    'shapes': {'come_to': ['store'], 'shape': ['store'], 'linkers': ['store'], 'is_shape': ['program', 'value'],
+               'shape_read': ['program', 'shape', 'way'], 'way_to': ['program', 'shape', 'number'],
+               'parting': ['program', 'one', 'other'], 'shows_parting': ['program', 'one', 'other', 'value']},
+    'keeping': {'kept_of': ['program', 'spare', 'calls']},
+    'memories': {'is_form': ['program', 'value'], 'is_memory': ['program', 'calls', 'value'],
+                 'wrong_place': ['program', 'calls', 'value'],
+                 'shows_wrong_place': ['program', 'calls', 'claim', 'value'], 'stretches': ['program', 'memory'],
+                 'map_at': ['program', 'memory', 'moment'], 'memory_read': ['program', 'memory', 'moment', 'way'],
+                 'plain_of': ['program', 'memory', 'moment']},
+    'leaving': {'needed': ['kept', 'moments'], 'needed_copies': ['kept', 'moments'],
+                'witness': ['kept', 'moments', 'copy'], 'shows_witness': ['kept', 'moments', 'copy', 'value'],
+                'left': ['kept', 'moments']},
+}
 
 CLASSES = {
     'texts': {'Program': {'__init__': ['self', 'text'], '__eq__': ['self', 'other'], 'line': ['self', 'number'],
@@ -21,6 +35,11 @@ CLASSES = {
                          'call': ['self', 'name', 'numbers'], 'door': ['self', 'name'],
                          'field': ['self', 'record', 'name'], 'read': ['self', 'way'], 'back': ['self', 'many'],
                          'copy': ['self']}},
+    'keeping': {'Kept': {'__init__': ['self', 'program', 'spare'], '__eq__': ['self', 'other'], '__len__': ['self'],
+                         'call': ['self', 'name', 'numbers'], 'let_go': ['self', 'moments'], 'memory': ['self'],
+                         'read_at': ['self', 'moment', 'way'], 'door_at': ['self', 'moment', 'door'],
+                         'copy_at': ['self', 'moment', 'record'], 'field_at': ['self', 'moment', 'record', 'field'],
+                         'shape_at': ['self', 'moment'], 'store_at': ['self', 'moment'], 'copy': ['self']}},
 }
 
 

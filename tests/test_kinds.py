@@ -2,8 +2,10 @@
 
 import unittest
 
-from everymoment.errors import BadNumbers, BadWay, NoDoor, NoField
-from everymoment.kinds import check_door, check_field, check_numbers, check_way, is_between, is_integer, is_number
+from everymoment.errors import BadMoment, BadNumbers, BadSpare, BadWay, NoDoor, NoField
+from everymoment.kinds import (
+    are_cells, check_door, check_field, check_moment, check_numbers, check_spare, check_way, is_ascending, is_between,
+    is_cell, is_integer, is_number, is_way)
 from samples import STACK, odd_values, raised
 
 
@@ -27,6 +29,30 @@ class IntegersTest(unittest.TestCase):
     def test_numbers(self):
         found = [is_number(value) for value in (-10000, -9999, 0, 9999, 10000)]
         self.assertEqual(found, [False, True, True, True, False])
+
+
+class CellsTest(unittest.TestCase):
+
+    def test_cells(self):
+        for value in (0, 9999, -9999, ('record', 0), ('record', 2)):
+            self.assertIs(is_cell(value, 'record', 3), True)
+        for value in odd_values() + [('record', 3), ('record', -1), ('record', True), ('copy', 0), ['record', 0],
+                                     ('record',), ('record', 0, 0), (0, 'record'), -10000]:
+            if not is_number(value):
+                with self.subTest(value=value):
+                    self.assertIs(is_cell(value, 'record', 3), False)
+                    self.assertIs(are_cells((0, value), 2, 'record', 3), False)
+                    self.assertIs(are_cells(value, 2, 'record', 3), False)
+        self.assertIs(is_cell(('record', 0), 'record', 0), False)
+
+    def test_tuples_of_cells(self):
+        found = [are_cells((1,) * many, 2, 'copy', 0) for many in range(4)]
+        self.assertEqual(found, [False, False, True, False])
+        self.assertIs(are_cells([1, 1], 2, 'copy', 0), False)
+
+    def test_ascending(self):
+        found = [is_ascending(numbers) for numbers in ((), (5,), (1, 2, 9), (1, 1), (2, 1), (1, 3, 2))]
+        self.assertEqual(found, [True, True, True, False, False, False])
 
 
 class TakenValuesTest(unittest.TestCase):
@@ -62,6 +88,21 @@ class TakenValuesTest(unittest.TestCase):
         for way in wrong:
             with self.subTest(way=way):
                 self.assertIs(raised(self, BadWay, check_way, STACK, way), way)
+                self.assertIs(is_way(STACK, way), False)
+
+    def test_spares(self):
+        for spare in list(range(9)) + [None]:
+            self.assertIsNone(check_spare(spare))
+        for spare in odd_values() + [9, -1, '0']:
+            if spare is not None and not is_between(spare, 0, 8):
+                self.assertIs(raised(self, BadSpare, check_spare, spare), spare)
+
+    def test_moments(self):
+        for moment in (0, 1, 4):
+            self.assertIsNone(check_moment((0, 1, 4), moment))
+        for moment in odd_values() + [2, 3, 5, '0', (0,)]:
+            if type(moment) is not int or moment not in (0, 1, 4):
+                self.assertIs(raised(self, BadMoment, check_moment, (0, 1, 4), moment), moment)
 
 
 if __name__ == '__main__':

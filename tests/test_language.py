@@ -22,7 +22,7 @@ setdefault split splitlines startswith strip update upper values zfill bit_lengt
 SPECIAL = set('__init__ __eq__ __repr__ __str__ __len__ __enter__ __exit__ __call__ __iter__ __contains__'.split())
 
 BARRED_NODES = (ast.Set, ast.AsyncFunctionDef, ast.Await, ast.AsyncFor, ast.AsyncWith, ast.Global, ast.GeneratorExp,
-                ast.Div, ast.Import, ast.TryStar, ast.Lambda, ast.Yield, ast.YieldFrom, ast.MatMult)
+                ast.Div, ast.Import, ast.TryStar, ast.Yield, ast.YieldFrom, ast.MatMult)
 
 BARRED_WORDS = '''type typing typing_extensions enum Enum IntEnum StrEnum Flag IntFlag Generic Protocol ABC ABCMeta
 namedtuple NamedTuple TypedDict TYPE_CHECKING abstractmethod register mro elements open input law version_info

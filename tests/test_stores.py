@@ -4,7 +4,7 @@ import unittest
 
 from everymoment.errors import (BadCalls, BadMany, BadNumbers, BadWay, Fault, NoDoor, NoField, NoPart, NoProgram,
                                 NoRecord)
-from everymoment.stores import Store, ran, writes
+from everymoment.stores import Store, done, first_state, ran, writes
 from everymoment.texts import Program
 from samples import PILE, STACK, odd_values, program_of, raised, standing
 
@@ -567,6 +567,24 @@ class WritesTest(StoreCase):
     def test_a_number_is_not_a_record(self):
         self.assertEqual(self.writes_of('new x', 'set x f x', 'set x f 0'),
                          ((1, 0, 'f', ('record', 0)), (1, 0, 'f', 0)))
+
+
+class DoneTest(unittest.TestCase):
+    """What a call does, one deed behind another, as machines that remember take it."""
+
+    def deeds_of(self, *lines):
+        program = program_of('fields f g', 'doors d e', 'part in x', 'set x g x', 'put e x', 'part p', *lines)
+        return done(program, first_state(program), 'p', ())[2]
+
+    def test_deeds(self):
+        self.assertEqual(self.deeds_of('new d', 'set d f 5', 'put e d', 'put x 7'), (
+            ('new', 0), ('put', 'd', ('record', 0)), ('set', 0, 'f', 5), ('put', 'e', ('record', 0))))
+        self.assertEqual(self.deeds_of('new x', 'call in x', 'put e 0', 'new y'), (
+            ('new', 0), ('set', 0, 'g', ('record', 0)), ('put', 'e', ('record', 0)), ('put', 'e', 0), ('new', 1)))
+
+    def test_what_becomes_nothing_else_is_no_deed(self):
+        self.assertEqual(self.deeds_of('put d 0', 'new x', 'set x f 0', 'put d 1', 'put d 1', 'put d 0'),
+                         (('new', 0), ('put', 'd', 1), ('put', 'd', 0)))
 
 
 if __name__ == '__main__':

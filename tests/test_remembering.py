@@ -1,0 +1,284 @@
+"""Points 6, 7, 8 and 11, held against a second reading and against Stores, on many programs and calls."""
+
+import random
+import unittest
+
+from everymoment.errors import BadMoment, Fault, NoRecord
+from everymoment.keeping import Kept, kept_of
+from everymoment.leaving import left, needed, needed_copies, shows_witness, witness
+from everymoment.memories import (
+    is_form, is_memory, map_at, memory_read, plain_of, shows_wrong_place, stretches, wrong_place)
+from everymoment.shapes import come_to, is_shape, linkers, parting, shape, shape_read, shows_parting, way_to
+from everymoment.stores import Store
+from everymoment.texts import Program
+from maker import Maker
+from reference import Broken
+from remembering import Rememberer, has_form, read, shape_of, ways, wrong_places
+from samples import WEB, raised, standing
+
+SPARES = (0, 1, 2, 3, 8, None)
+
+
+def programs(seed, many):
+    """So many programs: of each five two that are as they come, two that write much, and WEB."""
+    maker = Maker(seed)
+    found = []
+    for _ in range(many // 5):
+        texts = [maker.text(), maker.web(), maker.text(), maker.web()]
+        found += [Program(text) for text in texts] + [WEB]
+    return found
+
+
+def frozen(doors, rows):
+    return tuple(doors), tuple(map(tuple, rows))
+
+
+def rows_of(store):
+    return frozen(*standing(store)[5:])
+
+
+class Pair:
+    """A Kept and the second reading of it, which do the same deeds."""
+
+    def __init__(self, test, program, spare, seed):
+        self.test, self.program, self.random = test, program, random.Random(seed)
+        self.kept, self.other = Kept(program, spare), Rememberer(program.text, spare)
+        # What a Store tells at each moment.
+        self.states = [rows_of(Store(program))]
+
+    def call(self):
+        name, many = self.random.choice(self.program.parts)
+        if self.random.random() < 0.7 - self.kept.moment / 10:
+            # Where something is made first, more is done.
+            name, many = self.program.parts[0]
+        numbers = tuple(self.random.randint(-2, 4) for _ in range(many))
+        elder = self.kept.memory(), self.kept.calls, self.kept.wanted
+        try:
+            told = self.other.call(name, numbers)
+        except Broken as error:
+            self.test.assertEqual(raised(self.test, Fault, self.kept.call, name, numbers), error.args[0])
+            self.test.assertEqual((self.kept.memory(), self.kept.calls, self.kept.wanted), elder)
+            return
+        self.test.assertEqual(self.kept.call(name, numbers), told)
+        self.states.append(frozen(*self.other.state()))
+        self.check_memory()
+
+    def let_go(self):
+        moments = [moment for moment in self.kept.wanted if self.random.random() < 0.5]
+        counts = left(self.kept, tuple(moments))
+        self.test.assertIsNone(self.kept.let_go(tuple(moments)))
+        self.other.let_go(moments)
+        self.check_memory()
+        self.test.assertEqual(counts, (self.kept.copies, sum(len(copy[3]) for copy in self.kept.memory()[1])))
+
+    def check_memory(self):
+        kept = self.kept
+        self.test.assertEqual(kept.memory(), self.other.memory())
+        self.test.assertEqual(kept.wanted, tuple(self.other.wanted))
+        self.test.assertEqual((kept.copies, kept.records, kept.moment, len(kept)),
+                              (len(self.other.copies), len(self.other.newest), self.other.moment, self.other.moment))
+        self.test.assertTrue(is_form(self.program, kept.memory()))
+
+    def check_moment(self, moment):
+        doors, rows = self.states[moment]
+        kept, program = self.kept, self.program
+        self.test.assertEqual([kept.door_at(moment, door) for door in program.doors], list(doors))
+        asked = self.other.asked(moment)
+        for record in range(-1, kept.records + 1):
+            if record in asked:
+                self.test.assertEqual([kept.field_at(moment, record, name) for name in program.fields],
+                                      list(rows[record]))
+                found = kept.memory()[1][kept.copy_at(moment, record)]
+                self.test.assertEqual(found[0], record)
+                self.test.assertLessEqual(found[1], moment)
+            else:
+                self.test.assertEqual(raised(self.test, NoRecord, kept.copy_at, moment, record), record)
+                self.test.assertEqual(raised(self.test, NoRecord, kept.field_at, moment, record, 'x'), record)
+        for way in ways(program, 2):
+            value = read((doors, rows), program, way)
+            self.test.assertEqual(kept.read_at(moment, way), value)
+        for way in ways(program, 1):
+            value = read((doors, rows), program, way)
+            self.test.assertEqual(memory_read(program, kept.memory(), moment, way), value)
+        self.test.assertEqual(kept.shape_at(moment), shape_of(program, doors, rows))
+        store = kept.store_at(moment)
+        self.test.assertEqual((store.calls, rows_of(store)), (kept.calls[:moment], (doors, rows)))
+
+    def check_needs(self):
+        kept, program = self.kept, self.program
+        moments = tuple(moment for moment in kept.wanted if self.random.random() < 0.4)
+        needs = self.other.needs(moments)
+        self.test.assertEqual(needed(kept, moments), needs)
+        copies = tuple(sorted({copy for copy, _ in needs[1] + needs[2]}))
+        self.test.assertEqual(needed_copies(kept, moments), copies)
+        for copy in copies:
+            moment, way = witness(kept, moments, copy)
+            self.test.assertIn(moment, moments)
+            self.test.assertEqual(kept.read_at(moment, way), ('record', kept.memory()[1][copy][0]))
+            self.test.assertTrue(shows_witness(kept, moments, copy, (moment, way)))
+        for copy in copies[:2]:
+            record = kept.memory()[1][copy][0]
+            for moment in moments[:4]:
+                for way in ways(program, 1):
+                    shown = kept.read_at(moment, way) == ('record', record) and kept.copy_at(moment, record) == copy
+                    self.test.assertEqual(shows_witness(kept, moments, copy, (moment, way)), shown)
+
+
+class KeptTest(unittest.TestCase):
+
+    def test_deeds_do_the_same(self):
+        for number, program in enumerate(programs(3, 30)):
+            for spare in SPARES:
+                pair = Pair(self, program, spare, number)
+                for _ in range(18):
+                    pair.call()
+                    if pair.random.random() < 0.08:
+                        pair.let_go()
+                for moment in pair.kept.wanted:
+                    pair.check_moment(moment)
+                pair.check_needs()
+                for moment in set(range(-1, pair.kept.moment + 2)) - set(pair.kept.wanted):
+                    self.assertEqual(raised(self, BadMoment, pair.kept.shape_at, moment), moment)
+
+    def test_memories_are_right(self):
+        for number, program in enumerate(programs(4, 40)):
+            for spare in SPARES:
+                pair = Pair(self, program, spare, number)
+                for _ in range(12):
+                    pair.call()
+                kept, memory = pair.kept, pair.kept.memory()
+                self.assertTrue(is_memory(program, kept.calls, memory))
+                self.assertIsNone(wrong_place(program, kept.calls, memory))
+                self.assertEqual(wrong_places(program, pair.states, memory), set())
+                self.assertTrue(has_form(program, memory))
+                self.assertTrue(kept_of(program, spare, kept.calls) == kept)
+                self.assertEqual(kept_of(program, spare, kept.calls).memory(), memory)
+                for moment in kept.wanted:
+                    doors, rows = pair.states[moment]
+                    self.assertEqual(plain_of(program, memory, moment), (doors, tuple(enumerate(rows))))
+                    self.assertEqual(map_at(program, memory, moment),
+                                     tuple((record, kept.copy_at(moment, record)) for record in range(len(rows))))
+                spans = stretches(program, memory)
+                self.assertEqual([span[:2] for span in spans], [copy[:2] for copy in memory[1]])
+
+
+class Bender:
+    """Makes values that are MEMORIES, but for a place or a few."""
+
+    def __init__(self, program, seed):
+        self.program, self.random = program, random.Random(seed)
+
+    def bent(self, value):
+        """The value with one of its parts another one."""
+        if isinstance(value, tuple) and value and self.random.random() < 0.9:
+            at = self.random.randrange(len(value))
+            deed = self.random.random()
+            if deed < 0.06:
+                return value[:at] + value[at + 1:]
+            if deed < 0.1:
+                return value[:at] + (value[at],) + value[at:]
+            return value[:at] + (self.bent(value[at]),) + value[at + 1:]
+        if isinstance(value, int):
+            return value + self.random.choice((-2, -1, -1, 1, 1, 2))
+        return self.random.choice((0, 1, 5, ('copy', 0), ('copy', 1), ('copy', 2)) + self.program.fields)
+
+
+class JudgeTest(unittest.TestCase):
+
+    def check_claim(self, program, kept, states, claim):
+        self.assertIs(is_form(program, claim), has_form(program, claim), claim)
+        place = wrong_place(program, kept.calls, claim)
+        wrong = wrong_places(program, states, claim) if has_form(program, claim) else {-1}
+        self.assertIn(place, wrong or {None}, claim)
+        self.assertIs(is_memory(program, kept.calls, claim), not wrong, claim)
+        places = {None, -1}
+        if wrong != {-1}:
+            places |= {('record', record) for record in range(-1, kept.records + 2)}
+            places |= {('door', door, moment) for door in program.doors for moment in range(-1, kept.moment + 2)}
+            places |= {('copy', copy, field, moment) for copy in range(-1, kept.copies + 1)
+                       for field in program.fields[:2] for moment in range(-1, kept.moment + 2)}
+        for value in places | wrong:
+            shown = value in wrong if wrong else value is None
+            self.assertIs(shows_wrong_place(program, kept.calls, claim, value), shown, (claim, value))
+
+    def test_claims_that_are_bent(self):
+        for number, program in enumerate(programs(5, 10)):
+            for spare in (0, 1, None):
+                pair = Pair(self, program, spare, number)
+                for _ in range(7):
+                    pair.call()
+                bender = Bender(program, number)
+                for _ in range(15):
+                    claim = bender.bent(pair.kept.memory())
+                    if bender.random.random() < 0.3:
+                        claim = bender.bent(claim)
+                    self.check_claim(program, pair.kept, pair.states, claim)
+
+    def test_what_is_left_has_the_form_and_can_be_judged(self):
+        for number, program in enumerate(programs(6, 20)):
+            pair = Pair(self, program, 1, number)
+            for _ in range(10):
+                pair.call()
+            pair.let_go()
+            pair.call()
+            self.check_claim(program, pair.kept, pair.states, pair.kept.memory())
+
+
+class ShapesTest(unittest.TestCase):
+
+    def test_shapes_of_stores(self):
+        for number, program in enumerate(programs(7, 40)):
+            pair = Pair(self, program, None, number)
+            for _ in range(9):
+                pair.call()
+            shapes = []
+            for moment in pair.kept.wanted:
+                store = pair.kept.store_at(moment)
+                doors, rows = pair.states[moment]
+                self.assertEqual(shape(store), shape_of(program, doors, rows))
+                self.assertTrue(is_shape(program, shape(store)))
+                values = [value for row in rows for value in row]
+                self.assertEqual(linkers(store), tuple(values.count(('record', k)) for k in range(store.records)))
+                found = {store.read(way) for way in ways(program, 6)} - {None}
+                found = {value[1] for value in found if isinstance(value, tuple)}
+                self.assertLessEqual(found, set(come_to(store)))
+                self.assertEqual(len(come_to(store)), len(shape(store)[1]))
+                self.assertEqual(come_to(store), tuple(sorted(come_to(store))))
+                shapes.append(shape(store))
+            self.check_ways(program, shapes[-1])
+            self.check_partings(program, shapes[-3:])
+
+    def check_ways(self, program, one):
+        for number in range(len(one[1])):
+            way = way_to(program, one, number)
+            self.assertEqual(shape_read(program, one, way), ('record', number))
+            for other in ways(program, min(len(way) - 1, 5)):
+                if read(one, program, other) == ('record', number):
+                    self.assertEqual(other, way)
+                    break
+        for way in ways(program, 3):
+            self.assertEqual(shape_read(program, one, way), read(one, program, way))
+
+    def check_partings(self, program, shapes):
+        short = list(ways(program, 2))
+        for one in shapes:
+            for other in shapes:
+                found = parting(program, one, other)
+                self.assertIs(found is None, one == other)
+                self.assertTrue(shows_parting(program, one, other, found))
+                self.assertIs(shows_parting(program, one, other, None), one == other)
+                for way in short:
+                    told = read(one, program, way), read(other, program, way)
+                    kinds = {type(value) for value in told}
+                    self.assertIs(shows_parting(program, one, other, ('read', way)),
+                                  len(kinds) == 2 or kinds == {int} and told[0] != told[1])
+                for way in short[::3]:
+                    for next_way in short:
+                        told = [read(held, program, walked) for held in (one, other) for walked in (way, next_way)]
+                        shown = (all(isinstance(value, tuple) for value in told)
+                                 and (told[0] == told[1]) is not (told[2] == told[3]))
+                        self.assertIs(shows_parting(program, one, other, ('one', way, next_way)), shown)
+
+
+if __name__ == '__main__':
+    unittest.main()
