@@ -1,10 +1,10 @@
 """The remembering machine: it does calls as the plain one does, and can be asked at all moments."""
 
 from everymoment.errors import NoRecord
-from everymoment.kinds import check_door, check_field, check_moment, check_spare, check_way, is_between
+from everymoment.kinds import check_door, check_field, check_moment, check_spare, check_way, is_integer
 from everymoment.leaving import check_moments, copies_at, needs_of, what_stays, with_present
-from everymoment.memories import told_doors, told_field, told_inner, told_row, value_of
-from everymoment.shapes import shape_from
+from everymoment.memories import told_doors, told_inner, told_row, told_value, value_of
+from everymoment.shapes import links_to, shape_from
 from everymoment.stores import done, done_calls, first_state, ran
 from everymoment.texts import check_program
 
@@ -13,20 +13,24 @@ from everymoment.texts import check_program
 
 
 class Work:
-    """What the deeds of a call that leads to a moment make of a MEMORY, and of which copies are the newest ones."""
+    """What the deeds of the call by which a Kept comes to its next moment make of its MEMORY, and what they cost."""
 
-    def __init__(self, program, spare, moment, memory, newest):
+    def __init__(self, kept):
+        memory = kept.memory()
         doors, copies = memory
-        self.fields = program.fields
-        self.spare = spare
-        self.moment = moment
-        self.doors = dict(zip(program.doors, doors))
+        self.fields = kept.program.fields
+        self.spare = kept.spare
+        self.moment = kept.moment + 1
+        self.doors = dict(zip(kept.program.doors, doors))
         self.copies = list(copies)
         # For each record the number of its newest copy, None if it is freed; and what that copy tells now.
-        self.newest = list(newest)
-        self.told = [() if at is None else told_row(program, copies[at], moment) for at in newest]
+        self.newest = list(kept._newest)
+        self.told = [() if at is None else told_row(kept.program, copies[at], self.moment) for at in self.newest]
+        # For each record how many fields of records that aren't freed link to it.
+        self.linkers = links_to([[value_of(memory, inner) for inner in row] for row in self.told])
         # The fields that are to be led: (record, field, the record that was copied).
         self.queue = []
+        self.written, self.copied, self.led, self.most_linkers = kept._costs
 
     def do(self, deed):
         """Does one deed, of those that done tells."""
@@ -35,8 +39,19 @@ class Work:
         elif deed[0] == "put":
             self.put(deed[1], self.inner(deed[2]))
         else:
+            self.count_write(deed[1], deed[2], deed[3])
             self.write(deed[1], deed[2], self.inner(deed[3]))
             self.lead()
+
+    def count_write(self, record, field, value):
+        """Counts a write of the program's own, and the links that there are by it."""
+        self.written += 1
+        elder = self.told[record][self.fields.index(field)]
+        if isinstance(elder, tuple):
+            self.linkers[self.copies[elder[1]][0]] -= 1
+        if isinstance(value, tuple):
+            self.linkers[value[1]] += 1
+            self.most_linkers = max(self.most_linkers, self.linkers[value[1]])
 
     def inner(self, value):
         """The INNER of a VALUE."""
@@ -47,6 +62,7 @@ class Work:
         contents = (0,) * len(self.fields)
         self.newest.append(len(self.copies))
         self.told.append(contents)
+        self.linkers.append(0)
         self.copies.append((len(self.newest) - 1, self.moment, contents, ()))
 
     def put(self, door, inner):
@@ -84,8 +100,11 @@ class Work:
         for door in list(self.doors):
             if self.doors[door][-1][1] == elder:
                 self.put(door, newer)
-        self.queue.extend([(linking, field, record) for linking, row in enumerate(self.told) if elder in row
-                           for field, inner in zip(self.fields, row) if inner == elder])
+        leading = [(linking, field, record) for linking, row in enumerate(self.told) if elder in row
+                   for field, inner in zip(self.fields, row) if inner == elder]
+        self.queue.extend(leading)
+        self.copied += 1
+        self.led += len(leading)
 
     def lead(self):
         """Writes all fields that are to be led, and those that are to be led by that."""
@@ -96,6 +115,10 @@ class Work:
     def memory(self):
         """The MEMORY as it is now."""
         return (tuple(self.doors.values()), tuple(self.copies))
+
+    def costs(self):
+        """(writes, copies but first ones, fields led, most fields that linked to one record), all so far."""
+        return (self.written, self.copied, self.led, self.most_linkers)
 
 
 class Kept:
@@ -110,8 +133,7 @@ class Kept:
         self.wanted = (0,)
         self._deeds = ()
         self._state = first_state(program)
-        # For each record the moment at which it was made.
-        self._births = ()
+        self._costs = (0, 0, 0, 0)
         # The moment at which let_go was done last, -1 if it never was.
         self._let_go_at = -1
         self._remember(((((0, 0),),) * len(program.doors), ()), ())
@@ -134,15 +156,14 @@ class Kept:
     def _take(self, call, outcome):
         """Takes a call that can be done, by what done tells of it."""
         _, state, deeds = outcome
-        moment = self.moment + 1
-        work = Work(self.program, self.spare, moment, self._memory, self._newest)
+        work = Work(self)
         for deed in deeds:
             work.do(deed)
         self.calls = self.calls + (call,)
-        self.wanted = self.wanted + (moment,)
+        self.wanted = self.wanted + (work.moment,)
         self._deeds = self._deeds + (("call", call),)
         self._state = state
-        self._births = self._births + (moment,) * (len(work.newest) - self.records)
+        self._costs = work.costs()
         self._remember(work.memory(), tuple(work.newest))
 
     def call(self, name, numbers):
@@ -178,26 +199,19 @@ class Kept:
         check_door(self.program, door)
         return value_of(self._memory, told_inner(self.program, self._memory, moment, (door,)))
 
-    def _can_be_asked(self, moment, record):
-        """Whether a record that was made so far can be asked at a moment that can be asked."""
-        if moment > self._let_go_at:
-            return self._births[record] <= moment and self._newest[record] is not None
-        copies = self._memory[1]
-        return record in [copies[number][0] for number in copies_at(self.program, self._memory, moment)]
-
     def copy_at(self, moment, record):
         """The number of the copy that was the newest one of a record at a moment; BadMoment, NoRecord."""
         check_moment(self.wanted, moment)
-        if not is_between(record, 0, self.records - 1) or not self._can_be_asked(moment, record):
+        asked = copies_asked(self, moment)
+        if not is_integer(record) or record not in asked:
             raise NoRecord(record)
-        # What was read at this moment, and so this copy, was never let go.
-        return max([number for number, held in enumerate(self._memory[1]) if held[0] == record and held[1] <= moment])
+        return asked[record]
 
     def field_at(self, moment, record, field):
         """The VALUE that a field of a record held at a moment; BadMoment, NoRecord, NoField."""
-        held = self._memory[1][self.copy_at(moment, record)]
+        number = self.copy_at(moment, record)
         check_field(self.program, field)
-        return value_of(self._memory, told_field(self.program, held, field, moment))
+        return told_value(self.program, self._memory, number, field, moment)
 
     def shape_at(self, moment):
         """The SHAPE at a moment; BadMoment."""
@@ -218,15 +232,49 @@ class Kept:
         other.wanted = self.wanted
         other._deeds = self._deeds
         other._state = self._state
-        other._births = self._births
+        other._costs = self._costs
         other._let_go_at = self._let_go_at
         other._remember(self._memory, self._newest)
         return other
 
 
-def kept_of(program, spare, calls):
-    """The Kept behind these calls; NoProgram, BadSpare, BadCalls."""
+def copies_asked(kept, moment):
+    """For each record that can be asked at a moment of a Kept, the number of the copy that was its newest one then."""
+    copies = kept.memory()[1]
+    if moment <= kept._let_go_at:
+        return {copies[number][0]: number for number in copies_at(kept.program, kept.memory(), moment)}
+    # Of a record that isn't freed, the newest copy that there was at the last letting go, and all later ones, are
+    # there: so it was made by this moment just if it has a copy that was.
+    return {record: number for number, (record, made, _, _) in enumerate(copies)
+            if made <= moment and kept._newest[record] is not None}
+
+
+def costs_of(kept):
+    """(writes, copies but first ones, fields led, most fields that linked to one record) of a Kept, all so far."""
+    return kept._costs
+
+
+def has_let_go(kept):
+    """Whether a Kept ever let go, of whatever."""
+    return kept._let_go_at >= 0
+
+
+def newest_copies(kept):
+    """The newest copies of all records of a Kept that aren't freed."""
+    copies = kept.memory()[1]
+    return [copies[number] for number in kept._newest if number is not None]
+
+
+def kept_behind(program, spare, calls, outcomes):
+    """The Kept behind CALLS, these being what done_calls tells of them."""
     kept = Kept(program, spare)
-    for call, outcome in zip(calls, done_calls(program, calls)):
+    for call, outcome in zip(calls, outcomes):
         kept._take(call, outcome)
     return kept
+
+
+def kept_of(program, spare, calls):
+    """The Kept behind these calls; NoProgram, BadSpare, BadCalls."""
+    check_program(program)
+    check_spare(spare)
+    return kept_behind(program, spare, calls, done_calls(program, calls))

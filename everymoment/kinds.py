@@ -13,6 +13,11 @@ def is_integer(value):
     return isinstance(value, int) and not isinstance(value, bool)
 
 
+def is_whole(value):
+    """Whether any value is an integer from 0 on."""
+    return is_integer(value) and value >= 0
+
+
 def is_between(value, least, most):
     """Whether any value is an integer from least to most."""
     return is_integer(value) and least <= value <= most

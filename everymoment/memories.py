@@ -1,17 +1,12 @@
 """Memories, judged: the MEMORY of any machine is read, and held against what plain Stores did, without that machine."""
 
 from everymoment.errors import BadMemory, BadMoment
-from everymoment.kinds import are_cells, check_way, is_ascending, is_between, is_cell, is_integer
+from everymoment.kinds import are_cells, check_way, is_ascending, is_between, is_cell, is_integer, is_whole
 from everymoment.stores import done_calls, first_state
 from everymoment.texts import check_program
 
 # In a MEMORY a copy is (record, moment, contents, lines), a line of it (moment, FIELD, INNER), a line of a door
 # (moment, INNER).
-
-
-def is_whole(value):
-    """Whether any value is an integer from 0 on."""
-    return is_integer(value) and value >= 0
 
 
 def are_door_lines(value, copies):
@@ -132,6 +127,21 @@ def value_of(memory, inner):
     return ("record", memory[1][inner[1]][0]) if isinstance(inner, tuple) else inner
 
 
+def told_value(program, memory, number, field, moment):
+    """The VALUE that the copy with this number tells of a field at a moment."""
+    return value_of(memory, told_field(program, memory[1][number], field, moment))
+
+
+def plain_values(program, memory, moment, pairs):
+    """(doors, rows): the VALUES that are told at a moment, rows being (record, VALUES) of pairs (record, copy)."""
+    doors = [value_of(memory, inner) for inner in told_doors(memory, moment)]
+    rows = []
+    for record, number in pairs:
+        inners = told_row(program, memory[1][number], moment)
+        rows.append((record, tuple([value_of(memory, inner) for inner in inners])))
+    return (tuple(doors), tuple(rows))
+
+
 def spans_of(memory):
     """For each copy (record, first moment of its stretch, last one), the last one None if there is none."""
     later = {}
@@ -178,12 +188,7 @@ def plain_of(program, memory, moment):
     """(doors, rows): the VALUES that stand at a moment; NoProgram, BadMemory, BadMoment."""
     check_memory(program, memory)
     check_any_moment(moment)
-    doors = [value_of(memory, inner) for inner in told_doors(memory, moment)]
-    rows = []
-    for record, number in pairs_at(memory, moment):
-        inners = told_row(program, memory[1][number], moment)
-        rows.append((record, tuple([value_of(memory, inner) for inner in inners])))
-    return (tuple(doors), tuple(rows))
+    return plain_values(program, memory, moment, pairs_at(memory, moment))
 
 
 def births_of(states):

@@ -59,15 +59,19 @@ def shape(store):
     return shape_from(store.program, doors, lambda number: rows[number])
 
 
-def linkers(store):
-    """For each record of a Store, how many fields link to it."""
-    _, rows = state_of(store)
+def links_to(rows):
+    """For each record how many fields link to it, rows being the VALUES of the fields of each."""
     many = [0] * len(rows)
     for row in rows:
         for value in row:
             if isinstance(value, tuple):
                 many[value[1]] += 1
-    return tuple(many)
+    return many
+
+
+def linkers(store):
+    """For each record of a Store, how many fields link to it."""
+    return tuple(links_to(state_of(store)[1]))
 
 
 def is_shape(program, value):

@@ -1,4 +1,4 @@
-"""A second reading of points 6, 7, 8 and 11, on objects that link to one another, against which the package is held."""
+"""A second reading of points 6, 7, 8, 9, 11 and 12, on objects that link to one another."""
 
 import itertools
 
@@ -30,6 +30,7 @@ class Rememberer(Machine):
         self.door_lines = {name: [[0, 0]] for name in self.doors}
         self.copies, self.newest, self.births = [], [], []
         self.wanted, self.let_go_at = [0], None
+        self.copied, self.led, self.most = 0, 0, 0
 
     def statement(self, line, words, held):
         elder = {name: self.shown(value) for name, value in self.doors.items()}
@@ -39,15 +40,23 @@ class Rememberer(Machine):
             self.deeds.append(('new',))
         if words[0] == 'set' and len(self.written) > many:
             self.deeds.append(('set',) + self.written[-1][1:])
+            self.links.append(self.most_links())
         for name, value in self.doors.items():
             # What a called part put was noted as it was put.
             if words[0] != 'call' and self.shown(value) != elder[name]:
                 self.deeds.append(('put', name, self.shown(value)))
 
+    def most_links(self):
+        """How many fields of records that aren't freed link to one record now, at most."""
+        links = [value.number for thing in self.things if self.newest[thing.number:thing.number + 1] != [None]
+                 for value in thing.values() if value != 0 and not isinstance(value, int)]
+        return max([links.count(number) for number in links], default=0)
+
     def call(self, name, numbers):
-        self.deeds = []
+        self.deeds, self.links = [], []
         told = super().call(name, numbers)
         self.wanted.append(self.moment)
+        self.most = max([self.most] + self.links)
         for deed in self.deeds:
             self.do(*deed)
         return told
@@ -93,6 +102,7 @@ class Rememberer(Machine):
         contents[field] = value
         newer = Copy(record, self.moment, contents)
         self.copies.append(newer)
+        self.copied += 1
         self.newest[record] = newer
         for door in self.door_lines:
             if self.door_lines[door][-1][1] is copy:
@@ -101,6 +111,7 @@ class Rememberer(Machine):
             for name in self.fields:
                 if linking is not None and linking.told(name, self.moment) is copy:
                     self.todo.append((linking.record, name, record))
+                    self.led += 1
 
     def bare(self, value):
         return ('copy', self.copies.index(value)) if isinstance(value, Copy) else value
@@ -155,6 +166,12 @@ class Rememberer(Machine):
                       for number, name in enumerate(self.fields) if (copy, name) in contents),
                 tuple((at, number) for at, copy in enumerate(self.copies)
                       for number, line in enumerate(copy.lines) if id(line) in lines))
+
+    def space(self):
+        return len(self.copies), sum(len(copy.lines) for copy in self.copies)
+
+    def used_lines(self):
+        return sum(len(copy.lines) for copy in self.newest if copy is not None)
 
     def asked(self, moment):
         """The numbers of the records that can be asked at a wanted moment."""
@@ -296,3 +313,48 @@ def wrong_places(program, states, memory):
                     if not stands(told[-1], value, moment):
                         found.add(('copy', copy, name, moment))
     return found
+
+
+def is_paper(memory, moments, least, value):
+    """Whether any value charges each copy but first ones with so many of the writes of these moments, by point 9."""
+    def is_whole(given, end):
+        return type(given) is int and 0 <= given < end
+
+    if type(value) is not tuple:
+        return False
+    for part in value:
+        if not (type(part) is tuple and len(part) == 2 and type(part[1]) is tuple and is_whole(part[0], 10 ** 9)):
+            return False
+        if not all(is_whole(number, len(moments)) for number in part[1]):
+            return False
+        if list(part[1]) != sorted(set(part[1])) or len(part[1]) < least:
+            return False
+    copies = memory[1]
+    later = [at for at, copy in enumerate(copies) if copy[0] in [other[0] for other in copies[:at]]]
+    if [part[0] for part in value] != later:
+        return False
+    numbers = [number for part in value for number in part[1]]
+    return len(numbers) == len(set(numbers)) and all(
+        moments[number] <= copies[part[0]][1] for part in value for number in part[1])
+
+
+def rows_of_moments(wanted, holds):
+    """(first, last) of the longest rows of wanted moments at which something holds, holds being told of each."""
+    found = []
+    for holding, group in itertools.groupby(zip(wanted, holds), lambda pair: pair[1]):
+        if holding:
+            moments = [moment for moment, _ in group]
+            found.append((moments[0], moments[-1]))
+    return tuple(found)
+
+
+def differences(program, one, other, asked, other_asked):
+    """What changed between two (doors, rows), of which these records can be asked, by point 12."""
+    found = [('door', name, *pair) for name, *pair in zip(program.doors, one[0], other[0]) if pair[0] != pair[1]]
+    for record in range(max(asked + other_asked, default=-1) + 1):
+        if record in asked and record in other_asked:
+            found += [('field', record, name, *pair)
+                      for name, *pair in zip(program.fields, one[1][record], other[1][record]) if pair[0] != pair[1]]
+        elif record in asked + other_asked:
+            found.append(('gone' if record in asked else 'made', record))
+    return tuple(found)

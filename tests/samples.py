@@ -37,6 +37,20 @@ WEB = program_of(
     'set there key 7', 'get p there right', 'kind k p', 'if k', 'set p key n', 'set p left there', 'end',
     'put here there', 'set there key old', 'end', 'part fail n', 'call make n', 'call ring', 'tell here', 'set n key 1')
 
+# A row of records, each linked by the one that came behind it, of which the first and the last one can be poked.
+ROW = program_of(
+    'fields key next', 'doors top low', 'part push n', 'new r', 'set r key n', 'set r next top', 'put top r',
+    'kind k low', 'if k', 'else', 'put low r', 'end', 'part poke n', 'set low key n', 'part prod n', 'set top key n')
+
+# A row in both directions, through which a door goes; what stands behind the door can be taken out of it.
+CHAIN = program_of(
+    'fields key next prior', 'doors at', 'part put1 n', 'new r', 'set r key n', 'kind k at', 'if k', 'get x at next',
+    'set r next x', 'set r prior at', 'set at next r', 'kind k x', 'if k', 'set x prior r', 'end', 'else', 'put at r',
+    'end', 'part on', 'get x at next', 'kind k x', 'if k', 'put at x', 'end', 'part off', 'get x at prior', 'kind k x',
+    'if k', 'put at x', 'end', 'part mark n', 'set at key n', 'part cut', 'get x at next', 'kind k x', 'if k',
+    'get y x next', 'set at next y', 'set x next 0', 'set x prior 0', 'kind k y', 'if k', 'set y prior at', 'end',
+    'end')
+
 
 def deep(value, levels):
     """The value within so many tuples, lists and dicts."""

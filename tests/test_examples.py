@@ -1,4 +1,4 @@
-r"""The examples of points 4, 5, 6, 7, 8 and 11, and those of README.md.
+r"""The examples of points 4 to 12, and those of README.md.
 
 >>> from everymoment.texts import Program
 >>> rows = ['fields key after', 'doors head', 'part push k', 'new r', 'set r key k', 'set r after head', 'put head r']
@@ -132,6 +132,58 @@ True
 >>> told = kept.call('raise', ())
 >>> [kept.wanted, kept.memory()[1][0], kept.read_at(6, ('top', 'num'))]
 [(3, 5, 6), (0, 1, (5, 0), ((6, 'num', 6),)), 6]
+
+>>> from everymoment.charges import bound, charges, cheapest, copied, led, most_linkers, price, shows_charges, space, used_lines, written
+>>> from everymoment.keeping import kept_of
+>>> from everymoment.texts import Program
+>>> row = Program('fields key next\ndoors top low\npart push n\nnew r\nset r key n\nset r next top\nput top r\nkind k low\nif k\nelse\nput low r\nend\npart poke n\nset low key n')
+>>> calls = (('push', (1,)), ('push', (2,)), ('push', (3,)), ('poke', (4,)), ('poke', (5,)), ('poke', (6,)), ('poke', (7,)))
+>>> [(copied(kept), led(kept), space(kept), used_lines(kept), bound(kept)) for kept in [kept_of(row, spare, calls) for spare in (0, 1, 2, None)]]
+[(12, 8, (15, 0), 0, None), (3, 3, (6, 4), 1, 9), (1, 1, (4, 4), 2, 4), (0, 0, (3, 4), 4, 0)]
+>>> kept = kept_of(row, 1, calls)
+>>> written(kept), most_linkers(kept), [copy[:2] for copy in kept.memory()[1]]
+(9, 1, [(0, 1), (1, 2), (2, 3), (0, 5), (0, 7), (1, 7)])
+>>> [shows_charges(kept, value) for value in (((3, (0,)), (4, (5, 6)), (5, (8,))), ((3, (7,)), (4, (5,)), (5, (8,))), charges(kept))]
+[True, False, True]
+>>> price(row, calls, 1, 10, 1), cheapest(row, calls, 10, 1), cheapest(row, calls, 1, 10)
+(64, (4, 34), (0, 15))
+
+>>> from everymoment.keeping import kept_of
+>>> from everymoment.towers import beyond, shows_beyond, tower, tower_builds, tower_calls, tower_copies
+>>> tower(2, 2).text.split('\n')[2:]
+['part build', 'new r0', 'put low r0', 'new r1', 'set r1 up r0', 'new r2', 'set r2 up r0', 'part poke n', 'set low key n']
+>>> [kept_of(tower(2, 3), spare, tower_calls(16)).copies - 7 for spare in (0, 1, 2, 3)]
+[112, 24, 7, 6]
+>>> [tower_copies(2, spare, 3, 16) for spare in (0, 1, 2, 3)]
+[112, 24, 7, 6]
+>>> [tower_copies(3, 3, 50, 4 ** 50) * 100 > 99 * 4 ** 50, tower_copies(3, 3, 50, 4 ** 50) < 4 ** 50, tower_builds(2, 3)]
+[True, True, 6]
+>>> [beyond(2, spare, 1, 2) is None for spare in (1, 2, 3, 4)]
+[False, False, True, True]
+>>> levels, many = beyond(2, 1, 7, 1)
+>>> [tower_copies(2, 1, levels, many) > 7 * (many + tower_builds(2, levels)), shows_beyond(2, 3, 1, 2, None), shows_beyond(2, 1, 1, 1, (3, 2))]
+[True, True, False]
+
+>>> from everymoment.asking import alike_moments, changes, door_history, history, since, until, when
+>>> from everymoment.keeping import Kept
+>>> from everymoment.texts import Program
+>>> rows = ['fields key after', 'doors head', 'part push k', 'new r', 'set r key k', 'set r after head', 'put head r']
+>>> stack = Program('\n'.join(rows + ['part pop', 'kind any head', 'if any', 'get head head after', 'end', 'part mark k', 'set head key k']))
+>>> kept = Kept(stack, 1)
+>>> for name, numbers in (('push', (5,)), ('push', (7,)), ('mark', (9,)), ('pop', ()), ('mark', (5,))):
+...     told = kept.call(name, numbers)
+>>> [history(kept, 0, 'key'), history(kept, 1, 'key'), door_history(kept, 'head')]
+[((1, 5),), ((2, 7), (3, 9)), ((0, 0), (1, ('record', 0)), (2, ('record', 1)), (4, ('record', 0)))]
+>>> [since(kept, 3, 1, 'after'), until(kept, 3, 0, 'key'), since(kept, 5, 1, 'key')]
+[2, 5, 3]
+>>> [when(kept, ('head', 'key'), 5), when(kept, ('head', 'after'), ('record', 0)), when(kept, ('head', 'key'), None)]
+[((1, 1), (4, 5)), ((2, 3),), ((0, 0),)]
+>>> changes(kept, 1, 3)
+(('door', 'head', ('record', 0), ('record', 1)), ('made', 1))
+>>> changes(kept, 4, 2)
+(('door', 'head', ('record', 0), ('record', 1)), ('field', 1, 'key', 9, 7))
+>>> alike_moments(kept)
+((0,), (1, 4, 5), (2,), (3,))
 """
 
 import doctest
@@ -151,7 +203,7 @@ class ExamplesTest(unittest.TestCase):
         self.assertEqual(results.failed, 0, ''.join(said))
 
     def test_examples_of_the_document(self):
-        self.assert_examples(__doc__, 'points of the document', 70)
+        self.assert_examples(__doc__, 'points of the document', 105)
 
     def test_examples_of_the_readme(self):
         self.assert_examples(README.read_text(encoding='utf-8'), 'README.md', 5)

@@ -6,6 +6,7 @@ import inspect
 import pathlib
 import unittest
 
+from everymoment.keeping import Kept, kept_of
 from everymoment.stores import Store, ran
 from everymoment.texts import Program
 from samples import STACK
@@ -26,6 +27,16 @@ FUNCTIONS = {
     'leaving': {'needed': ['kept', 'moments'], 'needed_copies': ['kept', 'moments'],
                 'witness': ['kept', 'moments', 'copy'], 'shows_witness': ['kept', 'moments', 'copy', 'value'],
                 'left': ['kept', 'moments']},
+    'charges': {'written': ['kept'], 'copied': ['kept'], 'led': ['kept'], 'most_linkers': ['kept'], 'bound': ['kept'],
+                'charges': ['kept'], 'shows_charges': ['kept', 'value'], 'used_lines': ['kept'], 'space': ['kept'],
+                'price': ['program', 'calls', 'spare', 'copy_price', 'line_price'],
+                'cheapest': ['program', 'calls', 'copy_price', 'line_price']},
+    'towers': {'tower': ['p', 'levels'], 'tower_calls': ['many'], 'tower_builds': ['p', 'levels'],
+               'tower_copies': ['p', 'spare', 'levels', 'many'], 'beyond': ['p', 'spare', 'up', 'down'],
+               'shows_beyond': ['p', 'spare', 'up', 'down', 'value']},
+    'asking': {'history': ['kept', 'record', 'field'], 'door_history': ['kept', 'door'],
+               'since': ['kept', 'moment', 'record', 'field'], 'until': ['kept', 'moment', 'record', 'field'],
+               'when': ['kept', 'way', 'value'], 'changes': ['kept', 'one', 'other'], 'alike_moments': ['kept']},
 }
 
 CLASSES = {
@@ -82,6 +93,10 @@ class InterfaceTest(unittest.TestCase):
         for store in (Store(program), ran(program, ()), Store(program).copy()):
             self.assertIs(store.program, program)
             self.assertEqual([type(store.moment), type(store.records), type(store.calls)], [int, int, tuple])
+        for kept in (Kept(program, 1), kept_of(program, 1, ()), Kept(program, 1).copy()):
+            self.assertIs(kept.program, program)
+            self.assertEqual([kept.spare, type(kept.moment), type(kept.records), type(kept.calls), type(kept.copies),
+                              type(kept.wanted)], [1, int, int, tuple, int, tuple])
 
 
 if __name__ == '__main__':

@@ -1,20 +1,25 @@
-"""Points 6, 7, 8 and 11, held against a second reading and against Stores, on many programs and calls."""
+"""Points 6 to 9, 11 and 12, held against a second reading and against Stores, on many programs and calls."""
 
 import random
 import unittest
 
-from everymoment.errors import BadMoment, Fault, NoRecord
+from everymoment.asking import alike_moments, changes, door_history, history, since, until, when
+from everymoment.charges import (
+    bound, charges, cheapest, copied, led, most_linkers, price, shows_charges, space, used_lines, written)
+from everymoment.errors import BadMoment, Fault, NoCharge, NoRecord
 from everymoment.keeping import Kept, kept_of
 from everymoment.leaving import left, needed, needed_copies, shows_witness, witness
 from everymoment.memories import (
     is_form, is_memory, map_at, memory_read, plain_of, shows_wrong_place, stretches, wrong_place)
 from everymoment.shapes import come_to, is_shape, linkers, parting, shape, shape_read, shows_parting, way_to
-from everymoment.stores import Store
+from everymoment.stores import Store, writes
 from everymoment.texts import Program
+from everymoment.towers import tower
 from maker import Maker
 from reference import Broken
-from remembering import Rememberer, has_form, read, shape_of, ways, wrong_places
-from samples import WEB, raised, standing
+from remembering import (
+    Rememberer, differences, has_form, is_paper, read, rows_of_moments, shape_of, ways, wrong_places)
+from samples import CHAIN, ROW, WEB, raised, standing
 
 SPARES = (0, 1, 2, 3, 8, None)
 
@@ -78,6 +83,23 @@ class Pair:
         self.test.assertEqual((kept.copies, kept.records, kept.moment, len(kept)),
                               (len(self.other.copies), len(self.other.newest), self.other.moment, self.other.moment))
         self.test.assertTrue(is_form(self.program, kept.memory()))
+        self.test.assertEqual([written(kept), copied(kept), led(kept), most_linkers(kept)],
+                              [len(self.other.written), self.other.copied, self.other.led, self.other.most])
+        self.test.assertEqual([space(kept), used_lines(kept)], [self.other.space(), self.other.used_lines()])
+        self.check_bound()
+
+    def check_bound(self):
+        """The promise of point 9, at each moment."""
+        kept, most = self.kept, self.other.most
+        if kept.spare is None:
+            self.test.assertEqual([bound(kept), copied(kept)], [0, 0])
+        elif kept.spare < most:
+            self.test.assertIsNone(bound(kept))
+        else:
+            each = kept.spare - most + 1
+            self.test.assertEqual(bound(kept), len(self.other.written) // each)
+            self.test.assertLessEqual(copied(kept), bound(kept))
+            self.test.assertLessEqual(used_lines(kept) + each * copied(kept), written(kept))
 
     def check_moment(self, moment):
         doors, rows = self.states[moment]
@@ -124,6 +146,43 @@ class Pair:
                     self.test.assertEqual(shows_witness(kept, moments, copy, (moment, way)), shown)
 
 
+    def check_history(self):
+        """What is told across moments, beside what Stores tell at each of them."""
+        kept, program, wanted = self.kept, self.program, self.kept.wanted
+        for at, door in enumerate(program.doors):
+            values = [self.states[moment][0][at] for moment in wanted]
+            self.test.assertEqual(door_history(kept, door), self.turns(list(zip(wanted, values))))
+        asked = {moment: self.other.asked(moment) for moment in wanted}
+        for record in range(-1, kept.records + 1):
+            moments = [moment for moment in wanted if record in asked[moment]]
+            if not moments:
+                self.test.assertEqual(raised(self.test, NoRecord, history, kept, record, 'x'), record)
+            for at, name in enumerate(program.fields if moments else ()):
+                values = {moment: self.states[moment][1][record][at] for moment in moments}
+                self.test.assertEqual(history(kept, record, name), self.turns(list(values.items())))
+                for moment in moments:
+                    rows = rows_of_moments(wanted, [values.get(other) == values[moment] for other in wanted])
+                    row = [row for row in rows if row[0] <= moment <= row[1]]
+                    self.test.assertEqual([(since(kept, moment, record, name), until(kept, moment, record, name))], row)
+        for way in ways(program, 2):
+            told = [read(self.states[moment], program, way) for moment in wanted]
+            for value in set(told) | {None, 0, ('record', 0)}:
+                rows = rows_of_moments(wanted, [other == value for other in told])
+                self.test.assertEqual(when(kept, way, value), rows)
+        for _ in range(6):
+            one, other = self.random.choice(wanted), self.random.choice(wanted)
+            self.test.assertEqual(changes(kept, one, other), differences(
+                program, self.states[one], self.states[other], asked[one], asked[other]))
+        shapes = [shape_of(program, *self.states[moment]) for moment in wanted]
+        self.test.assertEqual(alike_moments(kept), tuple(
+            tuple(moment for moment, other in zip(wanted, shapes) if other == one)
+            for at, one in enumerate(shapes) if one not in shapes[:at]))
+
+    @staticmethod
+    def turns(pairs):
+        return tuple(pair for at, pair in enumerate(pairs) if [pair[1]] != [elder[1] for elder in pairs[:at]][-1:])
+
+
 class KeptTest(unittest.TestCase):
 
     def test_deeds_do_the_same(self):
@@ -137,6 +196,7 @@ class KeptTest(unittest.TestCase):
                 for moment in pair.kept.wanted:
                     pair.check_moment(moment)
                 pair.check_needs()
+                pair.check_history()
                 for moment in set(range(-1, pair.kept.moment + 2)) - set(pair.kept.wanted):
                     self.assertEqual(raised(self, BadMoment, pair.kept.shape_at, moment), moment)
 
@@ -160,6 +220,60 @@ class KeptTest(unittest.TestCase):
                                      tuple((record, kept.copy_at(moment, record)) for record in range(len(rows))))
                 spans = stretches(program, memory)
                 self.assertEqual([span[:2] for span in spans], [copy[:2] for copy in memory[1]])
+
+
+class ChargesTest(unittest.TestCase):
+
+    def test_papers(self):
+        several = 0
+        # Of these, most never link to a record by many fields.
+        found = [ROW, CHAIN, CHAIN, tower(1, 4), tower(2, 3), ROW] * 5 + programs(8, 10)
+        for number, program in enumerate(found):
+            for spare in SPARES:
+                pair = Pair(self, program, spare, number)
+                for _ in range(30):
+                    pair.call()
+                if bound(pair.kept) is None:
+                    self.assertIsNone(raised(self, NoCharge, charges, pair.kept))
+                    self.assertIsNone(raised(self, NoCharge, shows_charges, pair.kept, ()))
+                    continue
+                moments = [write[0] for write in writes(program, pair.kept.calls)]
+                least = 0 if spare is None else spare - most_linkers(pair.kept) + 1
+                several += copied(pair.kept) > 2
+                self.check_papers(pair, moments, least)
+        self.assertGreater(several, 30)
+
+    def check_papers(self, pair, moments, least):
+        kept = pair.kept
+        paper = charges(kept)
+        self.assertEqual(len(paper), copied(kept))
+        self.assertTrue(is_paper(kept.memory(), moments, least, paper))
+        self.assertTrue(shows_charges(kept, paper))
+        for _ in range(12):
+            bent = Bender(pair.program, pair.random.random()).bent(paper)
+            self.assertIs(shows_charges(kept, bent), is_paper(kept.memory(), moments, least, bent), bent)
+            # The same writes, handed out from the last one on.
+            numbers = list(range(len(moments)))[::-1]
+            pair.random.shuffle(numbers)
+            bent = tuple((copy, tuple(sorted(numbers[at * least:at * least + least])))
+                         for at, (copy, _) in enumerate(paper))
+            self.assertIs(shows_charges(kept, bent), is_paper(kept.memory(), moments, least, bent), bent)
+
+    def test_prices(self):
+        for number, program in enumerate(programs(9, 20)):
+            pair = Pair(self, program, None, number)
+            for _ in range(15):
+                pair.call()
+            calls = pair.kept.calls
+            for copy_price, line_price in ((1, 1), (3, 2), (0, 5), (7, 0), (0, 0), (1000, 1)):
+                prices = []
+                for spare in (0, 1, 2, 3, 4, 5, 6, 7, 8, None):
+                    copies, lines = space(kept_of(program, spare, calls))
+                    prices.append((copies * copy_price + lines * line_price, spare))
+                    self.assertEqual(price(program, calls, spare, copy_price, line_price), prices[-1][0])
+                least = min(found for found, _ in prices)
+                self.assertEqual(cheapest(program, calls, copy_price, line_price),
+                                 [(spare, found) for found, spare in prices if found == least][0])
 
 
 class Bender:
