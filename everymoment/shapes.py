@@ -53,10 +53,15 @@ def come_to(store):
     return tuple(sorted(ways_in(store.program, state_of(store))))
 
 
+def shape_in(program, state):
+    """The SHAPE of a state."""
+    doors, rows = state
+    return shape_from(program, doors, lambda number: rows[number])
+
+
 def shape(store):
     """The SHAPE of a Store."""
-    doors, rows = state_of(store)
-    return shape_from(store.program, doors, lambda number: rows[number])
+    return shape_in(store.program, state_of(store))
 
 
 def links_to(rows):

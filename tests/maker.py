@@ -2,6 +2,9 @@
 
 import random
 
+from everymoment.texts import Program
+from samples import WEB
+
 LOCALS = ('a', 'b', 'c')
 NUMBERS = ('0', '1', '-1', '2', '9999', '-9999')
 
@@ -108,3 +111,13 @@ class Maker:
                 lines[at] = ' '.join(words)
             lines = lines or ['']
         return '\n'.join(lines)
+
+
+def programs(seed, many):
+    """So many programs: of each five two that are as they come, two that write much, and WEB."""
+    maker = Maker(seed)
+    found = []
+    for _ in range(many // 5):
+        texts = [maker.text(), maker.web(), maker.text(), maker.web()]
+        found += [Program(text) for text in texts] + [WEB]
+    return found

@@ -1,4 +1,4 @@
-r"""The examples of points 4 to 12, and those of README.md.
+r"""The examples of points 4 to 14, and those of README.md.
 
 >>> from everymoment.texts import Program
 >>> rows = ['fields key after', 'doors head', 'part push k', 'new r', 'set r key k', 'set r after head', 'put head r']
@@ -184,6 +184,42 @@ True
 (('door', 'head', ('record', 0), ('record', 1)), ('field', 1, 'key', 9, 7))
 >>> alike_moments(kept)
 ((0,), (1, 4, 5), (2,), (3,))
+
+>>> from everymoment.branches import Tree
+>>> from everymoment.texts import Program
+>>> heap = Program('fields key next\ndoors top\npart push n\nnew r\nset r key n\nset r next top\nput top r\npart poke n\nset top key n\ntell top')
+>>> tree = Tree(heap)
+>>> [tree.call(0, 'push', (5,)), tree.call(1, 'push', (7,)), tree.call(1, 'poke', (6,)), tree.call(3, 'push', (7,))]
+[(1, ()), (2, ()), (3, (('record', 0),)), (4, ())]
+>>> [tree.order, tree.parent(3), tree.path(4), tree.records_of(4), tree.calls_of(4)[1]]
+[(0, 1, 3, 4, 2), 1, (0, 1, 3, 4), (0, 2), ('poke', (6,))]
+>>> [tree.read_at(moment, ('top', 'next', 'key')) for moment in (0, 1, 2, 3, 4)]
+[None, None, 5, None, 6]
+>>> [tree.lines(0, 'key'), tree.door_lines('top')]
+[((1, 5), (3, 6), (2, 5)), ((0, 0), (1, ('record', 0)), (4, ('record', 2)), (2, ('record', 1)))]
+>>> [tree.common(2, 4), tree.changes(2, 4), tree.lines_many]
+[1, (('door', 'top', ('record', 1), ('record', 2)), ('field', 0, 'key', 5, 6), ('gone', 1), ('made', 2)), 12]
+>>> [tree.shape_at(4), tree.field_at(2, 0, 'key'), tree.call(1, 'poke', (5,))[0], tree.lines(0, 'key')]
+[((('record', 0),), ((7, ('record', 1)), (6, 0))), 5, 5, ((1, 5), (3, 6), (2, 5))]
+>>> tree.call(2, 'poke', (7,)), tree.call(1, 'poke', (6,)), tree.order, tree.lines(0, 'key')
+((6, (('record', 1),)), (7, (('record', 0),)), (0, 1, 7, 5, 3, 4, 2, 6), ((1, 5), (7, 6), (5, 5), (3, 6), (2, 5)))
+
+>>> from everymoment.desk import Desk
+>>> from everymoment.journals import journal, read_journal
+>>> text = 'fields val link\ndoors top\npart push v\nnew n\nset n val v\nset n link top\nput top n\ntell n\npart low v\nget n top link\nset n val v'
+>>> desk = Desk(text + '\nspare 0\ndeeds\ncall push 5\ncall push 7')
+>>> [desk.say(line) for line in ('copies', 'call low 3', 'copies', 'call push 1', 'copies')]
+['2 0', 'none', '4 0', 'record 2', '5 0']
+>>> [desk.say(line) for line in ('at 2 top link val', 'at 4 top link link val', 'at 1 top link link', 'history 0 val', 'needed 2')]
+['5', '3', '-', '1 5 ; 3 3', '0 1']
+>>> [desk.say(line) for line in ('shape 2', 'respare 1', 'copies', 'needed 2 4')]
+['record 0 ; 7, record 1 ; 5, 0', 'done', '3 1', '0 1 2']
+>>> [desk.say(line) for line in ('let_go 1', 'copies', 'at 4 top link val', 'undo', 'let_go')], desk.bench.wanted
+(['done', '3 1', '7', 'done', 'done'], (4,))
+>>> journal(desk.bench).split('\n')[11:]
+['spare 0', 'deeds', 'call push 5', 'call push 7', 'call low 3', 'call push 1', 'respare 1', 'let_go']
+>>> [read_journal(journal(desk.bench)) == desk.bench, len(desk.bench), 3 in desk.bench]
+[True, 4, False]
 """
 
 import doctest
@@ -203,7 +239,7 @@ class ExamplesTest(unittest.TestCase):
         self.assertEqual(results.failed, 0, ''.join(said))
 
     def test_examples_of_the_document(self):
-        self.assert_examples(__doc__, 'points of the document', 105)
+        self.assert_examples(__doc__, 'points of the document', 130)
 
     def test_examples_of_the_readme(self):
         self.assert_examples(README.read_text(encoding='utf-8'), 'README.md', 5)

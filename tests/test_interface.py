@@ -6,6 +6,9 @@ import inspect
 import pathlib
 import unittest
 
+from everymoment.benches import Bench
+from everymoment.branches import Tree
+from everymoment.desk import Desk
 from everymoment.keeping import Kept, kept_of
 from everymoment.stores import Store, ran
 from everymoment.texts import Program
@@ -37,6 +40,7 @@ FUNCTIONS = {
     'asking': {'history': ['kept', 'record', 'field'], 'door_history': ['kept', 'door'],
                'since': ['kept', 'moment', 'record', 'field'], 'until': ['kept', 'moment', 'record', 'field'],
                'when': ['kept', 'way', 'value'], 'changes': ['kept', 'one', 'other'], 'alike_moments': ['kept']},
+    'journals': {'journal': ['bench'], 'read_journal': ['text']},
 }
 
 CLASSES = {
@@ -51,6 +55,19 @@ CLASSES = {
                          'read_at': ['self', 'moment', 'way'], 'door_at': ['self', 'moment', 'door'],
                          'copy_at': ['self', 'moment', 'record'], 'field_at': ['self', 'moment', 'record', 'field'],
                          'shape_at': ['self', 'moment'], 'store_at': ['self', 'moment'], 'copy': ['self']}},
+    'branches': {'Tree': {'__init__': ['self', 'program'], '__eq__': ['self', 'other'],
+                          'call': ['self', 'moment', 'name', 'numbers'], 'parent': ['self', 'moment'],
+                          'path': ['self', 'moment'], 'calls_of': ['self', 'moment'], 'records_of': ['self', 'moment'],
+                          'door_at': ['self', 'moment', 'door'], 'field_at': ['self', 'moment', 'record', 'field'],
+                          'read_at': ['self', 'moment', 'way'], 'shape_at': ['self', 'moment'],
+                          'common': ['self', 'one', 'other'], 'changes': ['self', 'one', 'other'],
+                          'lines': ['self', 'record', 'field'], 'door_lines': ['self', 'door'], 'copy': ['self']}},
+    'benches': {'Bench': {'__init__': ['self', 'text', 'spare'], '__eq__': ['self', 'other'], '__len__': ['self'],
+                          '__contains__': ['self', 'value'], 'call': ['self', 'name', 'numbers'],
+                          'let_go': ['self', 'moments'], 'respare': ['self', 'spare'], 'kept_now': ['self'],
+                          'undo': ['self'], 'redo': ['self'], 'block': ['self'], 'keep': ['self'],
+                          'tried': ['self', 'look', 'keep'], 'copy': ['self']}},
+    'desk': {'Desk': {'__init__': ['self', 'text'], 'say': ['self', 'line']}},
 }
 
 
@@ -97,6 +114,25 @@ class InterfaceTest(unittest.TestCase):
             self.assertIs(kept.program, program)
             self.assertEqual([kept.spare, type(kept.moment), type(kept.records), type(kept.calls), type(kept.copies),
                               type(kept.wanted)], [1, int, int, tuple, int, tuple])
+        for tree in (Tree(program), Tree(program).copy()):
+            self.assertIs(tree.program, program)
+            self.assertEqual([type(tree.moments), type(tree.records), type(tree.order), type(tree.lines_many)],
+                             [int, int, tuple, int])
+        desk = Desk(STACK.text + '\nspare 1\ndeeds')
+        self.assertIs(type(desk.bench), Bench)
+        for bench in (Bench(STACK.text, 1), Bench(STACK.text, 1).copy(), desk.bench):
+            self.assertEqual(bench.program, program)
+            self.assertEqual([bench.spare, type(bench.moment), type(bench.wanted), type(bench.deeds)],
+                             [1, int, tuple, int])
+
+    def test_what_is_passed_by_name_alone(self):
+        self.assertEqual(str(inspect.signature(Bench.tried)), '(self, look, *, keep=False)')
+
+    def test_all_names_of_the_interface_are_there(self):
+        files = {'errors', 'texts', 'stores', 'shapes', 'keeping', 'memories', 'charges', 'towers', 'leaving', 'asking',
+                 'branches', 'benches', 'journals', 'desk'}
+        self.assertEqual(set(FUNCTIONS) | set(CLASSES) | {'errors'}, files)
+        self.assertEqual(sum(map(len, FUNCTIONS.values())) + sum(map(len, CLASSES.values())), 56)
 
 
 if __name__ == '__main__':

@@ -53,6 +53,8 @@ def bound_names(tree):
             yield node.arg
         elif isinstance(node, (ast.FunctionDef, ast.ClassDef)):
             yield node.name
+        elif isinstance(node, ast.ExceptHandler) and node.name:
+            yield node.name
 
 
 class LanguageTest(unittest.TestCase):
@@ -117,6 +119,18 @@ class LanguageTest(unittest.TestCase):
                     self.assertIsNotNone(node.type, name)
                 if isinstance(node, ast.Compare) and any(isinstance(sign, (ast.Is, ast.IsNot)) for sign in node.ops):
                     self.assertIn(ast.unparse(node.comparators[-1]), ('None', 'True', 'False'), name)
+
+    def test_what_stands_in_exits(self):
+        for name, _, tree in trees():
+            for node in ast.walk(tree):
+                if isinstance(node, ast.FunctionDef) and node.name == '__exit__':
+                    kinds = (ast.FunctionDef, ast.arguments, ast.arg, ast.Assign, ast.If, ast.BoolOp, ast.UnaryOp,
+                             ast.Compare, ast.Attribute, ast.Name, ast.Constant, ast.expr_context, ast.boolop,
+                             ast.unaryop, ast.cmpop)
+                    for inner in ast.walk(node):
+                        self.assertIsInstance(inner, kinds, name)
+                        if isinstance(inner, ast.Name):
+                            self.assertIn(inner.id, ('self', 'kind', 'bench'), name)
 
     def test_words_that_are_not_used(self):
         for name, _, tree in trees():

@@ -13,25 +13,14 @@ from everymoment.memories import (
     is_form, is_memory, map_at, memory_read, plain_of, shows_wrong_place, stretches, wrong_place)
 from everymoment.shapes import come_to, is_shape, linkers, parting, shape, shape_read, shows_parting, way_to
 from everymoment.stores import Store, writes
-from everymoment.texts import Program
 from everymoment.towers import tower
-from maker import Maker
+from maker import programs
 from reference import Broken
 from remembering import (
     Rememberer, differences, has_form, is_paper, read, rows_of_moments, shape_of, ways, wrong_places)
-from samples import CHAIN, ROW, WEB, raised, standing
+from samples import CHAIN, ROW, raised, standing
 
 SPARES = (0, 1, 2, 3, 8, None)
-
-
-def programs(seed, many):
-    """So many programs: of each five two that are as they come, two that write much, and WEB."""
-    maker = Maker(seed)
-    found = []
-    for _ in range(many // 5):
-        texts = [maker.text(), maker.web(), maker.text(), maker.web()]
-        found += [Program(text) for text in texts] + [WEB]
-    return found
 
 
 def frozen(doors, rows):
