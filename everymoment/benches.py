@@ -123,9 +123,10 @@ class Bench:
 
     def keep(self):
         """Has what is done in the innermost block stay; NoBlock."""
-        if self._block is None:
+        innermost = self._block
+        if innermost is None:
             raise NoBlock(None)
-        self._block.is_kept = True
+        innermost.is_kept = True
 
     def tried(self, look, *, keep=False):
         """What look tells of the bench; what it does at it stays only if keep is True, or look calls keep."""

@@ -9,9 +9,8 @@ from everymoment.errors import (
     BadMoments, BadNumbers, BadProgram, BadSpare, Fault, LetGo, NoBlock, NoPart, NothingToRedo, NothingToUndo)
 from everymoment.journals import journal, read_journal
 from everymoment.keeping import Kept, kept_of
-from everymoment.texts import Program
 from maker import programs
-from samples import PILE, STACK, WEB, odd_values, program_of, raised
+from samples import PILE, STACK, odd_values, program_of, raised
 
 HEAP = program_of('fields val link', 'doors top', 'part push v', 'new n', 'set n val v', 'set n link top', 'put top n',
                   'tell n', 'part low v', 'get n top link', 'set n val v', 'part drop', 'put top 0')
