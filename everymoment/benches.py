@@ -13,7 +13,8 @@ class Block:
 
     def __init__(self, bench):
         self.bench = bench
-        self.is_kept = False
+        # None, not False, until keep is called: what ends a block may ask it by "is None" alone.
+        self.keep_asked = None
 
     def __enter__(self):
         bench = self.bench
@@ -31,14 +32,15 @@ class Block:
     def __exit__(self, kind, value, trace):
         bench = self.bench
         bench._block = self.outer
-        if kind is not None or not self.is_kept:
-            bench.deeds = self.deeds
-            bench.spare = self.spare
-            bench.moment = self.moment
-            bench.wanted = self.wanted
-            bench._deeds_done = self._deeds_done
-            bench._kepts = self._kepts
-            bench._undone = self._undone
+        if kind is None and self.keep_asked is not None:
+            return
+        bench.deeds = self.deeds
+        bench.spare = self.spare
+        bench.moment = self.moment
+        bench.wanted = self.wanted
+        bench._deeds_done = self._deeds_done
+        bench._kepts = self._kepts
+        bench._undone = self._undone
 
 
 class Bench:
@@ -126,7 +128,7 @@ class Bench:
         innermost = self._block
         if innermost is None:
             raise NoBlock(None)
-        innermost.is_kept = True
+        innermost.keep_asked = True
 
     def tried(self, look, *, keep=False):
         """What look tells of the bench; what it does at it stays only if keep is True, or look calls keep."""

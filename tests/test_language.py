@@ -29,6 +29,11 @@ namedtuple NamedTuple TypedDict TYPE_CHECKING abstractmethod register mro elemen
 with_traceback add_note _wall _WallAttr eval exec compile globals locals vars dir id hash super getattr setattr
 hasattr delattr'''.split()
 
+EXIT_ROW = re.compile(r'return( None| False)?|bench = self\.bench|(self|bench)\.\w+ = (self|bench)\.\w+')
+
+# As classes here have __eq__ and __len__, no attribute is asked alone.
+EXIT_TEST = re.compile(r'kind is None|(self|bench)\.\w+ is (not )?None')
+
 
 def trees():
     for path in sorted(PACKAGE.glob('*.py')):
@@ -55,6 +60,33 @@ def bound_names(tree):
             yield node.name
         elif isinstance(node, ast.ExceptHandler) and node.name:
             yield node.name
+
+
+def tests_joined(test):
+    """What a test asks one by one, without what joins it."""
+    if isinstance(test, ast.BoolOp):
+        return [part for value in test.values for part in tests_joined(value)]
+    if isinstance(test, ast.UnaryOp) and isinstance(test.op, ast.Not):
+        return tests_joined(test.operand)
+    return [test]
+
+
+def wrong_rows(rows):
+    """The rows that cannot stand in an __exit__, and what an if there cannot ask."""
+    found = []
+    for row in rows:
+        if isinstance(row, ast.If):
+            asked = [ast.unparse(part) for part in tests_joined(row.test)]
+            found += [text for text in asked if not EXIT_TEST.fullmatch(text)]
+            found += wrong_rows(row.body + row.orelse)
+        elif not EXIT_ROW.fullmatch(ast.unparse(row)):
+            found.append(ast.unparse(row))
+    return found
+
+
+def wrong_in_exits(tree):
+    return [text for node in ast.walk(tree) if isinstance(node, ast.FunctionDef) and node.name == '__exit__'
+            for text in wrong_rows(node.body)]
 
 
 class LanguageTest(unittest.TestCase):
@@ -122,15 +154,22 @@ class LanguageTest(unittest.TestCase):
 
     def test_what_stands_in_exits(self):
         for name, _, tree in trees():
-            for node in ast.walk(tree):
-                if isinstance(node, ast.FunctionDef) and node.name == '__exit__':
-                    kinds = (ast.FunctionDef, ast.arguments, ast.arg, ast.Assign, ast.If, ast.BoolOp, ast.UnaryOp,
-                             ast.Compare, ast.Attribute, ast.Name, ast.Constant, ast.expr_context, ast.boolop,
-                             ast.unaryop, ast.cmpop)
-                    for inner in ast.walk(node):
-                        self.assertIsInstance(inner, kinds, name)
-                        if isinstance(inner, ast.Name):
-                            self.assertIn(inner.id, ('self', 'kind', 'bench'), name)
+            self.assertEqual(wrong_in_exits(tree), [], name)
+
+    def test_what_is_wrong_in_exits_is_told(self):
+        begun = 'class C:\n    def __exit__(self, kind, value, trace):\n        bench = self.bench\n        '
+        for row in ('return', 'return False', 'bench.many = self.many', 'if kind is None and self.was is not None:\n'
+                    '            return\n        else:\n            bench.many = self.many'):
+            self.assertEqual(wrong_in_exits(ast.parse(begun + row)), [], row)
+        for test in ('self.was', 'not self.was', 'kind', 'self.was == 1', 'kind is not None', 'value is None',
+                     'self.was is True', 'self.was() is None'):
+            for joined in (test, 'kind is None and (self.was is None or ' + test + ')'):
+                tree = ast.parse(begun + 'if ' + joined + ':\n            return')
+                self.assertEqual(wrong_in_exits(tree), [ast.unparse(ast.parse(test.removeprefix('not ')))], joined)
+        for row in ('return True', 'bench.many = value', 'bench.undo()', 'bench.many = bench.many * 2', 'raise',
+                    'bench.rows[0] = self.many'):
+            self.assertEqual(wrong_in_exits(ast.parse(begun + row)), [row])
+            self.assertEqual(wrong_in_exits(ast.parse(begun + 'if kind is None:\n            ' + row)), [row])
 
     def test_words_that_are_not_used(self):
         for name, _, tree in trees():
